@@ -1,0 +1,1 @@
+"""Lanternwatch: boats at night, told by their lights."""
