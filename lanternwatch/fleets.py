@@ -1,6 +1,7 @@
 """A fleet: the colours that there are, and the kinds of boats with their lamps."""
 
 from lanternwatch.errors import NoKind
+from lanternwatch.forms import is_name_of
 
 
 def kind_row(row):
@@ -34,9 +35,7 @@ class Fleet:
         return list(self._row(kind)[2])
 
     def _row(self, kind):
-        # No value but a text is compared: others may be equal to anything.
-        if isinstance(kind, str):
-            for row in self._rows:
-                if row[0] == kind:
-                    return row
+        kinds = self.kinds()
+        if is_name_of(kind, kinds):
+            return self._rows[kinds.index(kind)]
         raise NoKind("the fleet has no kind of this name")

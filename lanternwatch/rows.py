@@ -1,13 +1,12 @@
 """The rows of a text, each by its words alone; None stands for what is no such row."""
 
+from lanternwatch.forms import LAST_MOMENT, LAST_POINT, LONGEST_COLUMN
+
 LETTERS = "abcdefghijklmnopqrstuvwxyz"
 ROW_WORDS = ("colours", "kind", "lamp", "sight")
 LONGEST_NAME = 6
 MOST_COLOURS = 6
-LONGEST_COLUMN = 6
 MOST_TURN = 16
-LAST_POINT = 31
-LAST_MOMENT = 99
 
 
 def is_name(word):

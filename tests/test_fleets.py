@@ -3,6 +3,7 @@
 import copy
 import unittest
 
+from handed import NO_KINDS, name_of
 from lanternwatch.errors import NoKind
 from lanternwatch.fleets import Fleet
 from lanternwatch.reading import read
@@ -10,35 +11,6 @@ from lanternwatch.reading import read
 TUG = (("white", 27, 5), ("white", 27, 5), ("red", 0, 10))
 PILOT = (("green", 31, 30),)
 PLAIN = (("red", "green", "white"), (("tug", 3, TUG), ("red", 16, PILOT), ("pilot", 0, PILOT)))
-
-
-class Equal:
-    """A value that is equal to any other."""
-
-    def __eq__(self, other):
-        return True
-
-    __hash__ = None
-
-
-class Loud:
-    """A value that can't be compared, kept as a key or shown."""
-
-    def __eq__(self, other):
-        raise RuntimeError("compared")
-
-    def __hash__(self):
-        raise RuntimeError("kept")
-
-    def __repr__(self):
-        raise RuntimeError("shown")
-
-    __str__ = __repr__
-
-
-NO_KINDS = ["", "green", "white", "tugs", "tu", "TUG", "Tug", " tug", "tug ", "tug pilot", "kind",
-            "dark", None, True, False, 0, 1, 3, 1.5, b"tug", ["tug"], ("tug",), {"tug": 3}, {"tug"},
-            [], (), {}, ("tug", 3, TUG), object(), str, Fleet, Equal(), Loud()]
 
 
 class Asking(unittest.TestCase):
@@ -82,7 +54,7 @@ class Asking(unittest.TestCase):
 
     def test_no_kind(self):
         for value in NO_KINDS:
-            with self.subTest(kind=value.__class__.__name__):
+            with self.subTest(kind=name_of(value)):
                 with self.assertRaises(NoKind):
                     self.fleet.turn(value)
                 with self.assertRaises(NoKind):
