@@ -4,6 +4,7 @@ POINTS = 32
 LAST_POINT = 31
 LAST_MOMENT = 99
 LONGEST_COLUMN = 6
+MOST_LOOKS = 3
 
 
 def is_number(value, most):

@@ -7,6 +7,12 @@ from lanternwatch.forms import LAST_MOMENT, is_number, is_sight
 MOST_SIGHTS = 200
 
 
+def check_sight(fleet, value):
+    """Refuses what is no sight of the fleet's colours."""
+    if not is_sight(value, fleet.plain()[0]):
+        raise BadSight("no sight of the fleet's colours")
+
+
 class Watch:
     """The sights of a fleet, in the order in which they came."""
 
@@ -20,8 +26,7 @@ class Watch:
 
     def put(self, sight):
         """Takes one more sight, of whatever moment."""
-        if not is_sight(sight, self._fleet.plain()[0]):
-            raise BadSight("no sight of the fleet's colours")
+        check_sight(self._fleet, sight)
         if len(self._sights) == MOST_SIGHTS:
             raise Full("a watch takes 200 sights")
         moment, side, colours = sight

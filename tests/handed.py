@@ -2,7 +2,9 @@
 
 import random
 
+from lanternwatch.columns import all_boats
 from lanternwatch.fleets import Fleet
+from lanternwatch.watches import Watch
 
 NAMES = ["a", "bb", "ccc", "dddd", "eeeee", "ffffff"]
 
@@ -58,6 +60,34 @@ TEXTS = ["", " ", "0", "1", "31", "3.0", "point", "north", "tugs", "tu", "TUG", 
 NO_KINDS = ODD + TUPLES + TEXTS + [0, 1, 3, -1, 9999999]
 NO_POINTS = ODD + TUPLES + TEXTS + [-1, -2, -32, 32, 33, 63, 64, 100, 9999999, -9999999, "tug"]
 
+NO_MOMENTS = ODD + TUPLES + TEXTS + [-1, -2, -99, 100, 101, 999, 9999999, -9999999, "tug"]
+# A colour must be one of red, green and white.
+NO_COLOURS = ODD + TUPLES + [word for word in TEXTS if word not in ("green", "white")] + [0, 1, "tug", "blue"]
+NO_COLUMNS = ODD + TEXTS + [0, 1, "red", ["red"], [], ("red",) * 7, ("white",) * 8, ((),), (("red",),)]
+NO_COLUMNS += [(value,) for value in NO_COLOURS]
+NO_COLUMNS += [("red", value, "white") for value in NO_COLOURS]
+NO_COLUMNS += [("red",) * 5 + (value,) for value in NO_COLOURS]
+NO_SIGHTS = ODD + TUPLES + TEXTS + [0, 99, "sight 1 2 red", (1, 2), (1, 2, ("red",), ()), (1, 2, "red"),
+                                    [1, 2, ("red",)], (1, 2, ["red"]), ((1, 2, ("red",)),), (1, ("red",), 2),
+                                    (("red",), 1, 2), (1, 2, "red", "white"), [(1, 2, ("red",))]]
+NO_SIGHTS += [(value, 2, ("red",)) for value in NO_MOMENTS]
+NO_SIGHTS += [(1, value, ("red",)) for value in NO_POINTS]
+NO_SIGHTS += [(1, 2, value) for value in NO_COLUMNS]
+
+NO_BOATS = ODD + TUPLES + TEXTS + [0, 31, "tug", ["tug", 3], ("tug", [3]), (["tug"], 3), ("boat", 3)]
+NO_BOATS += [(kind, 3) for kind in NO_KINDS] + [("tug", point) for point in NO_POINTS]
+NO_BOATS += [(3, "tug"), ("tug", "3"), ("tug", 3, None), (("tug", 3),), ("tug", "twin"), (3, 3)]
+
+# What is no list of unlike boats of the harbour, one at least.
+NO_LISTS = ODD + TUPLES + TEXTS + [0, "tug 3", ("tug", 3), (("tug", 3),), (("tug", 3), ("red", 4)), {("tug", 3)},
+                                   {("tug", 3): 1}, frozenset([("tug", 3)]), iter([("tug", 3)]), [[("tug", 3)]],
+                                   [("tug", 3)] * 2, [("tug", 3), ("red", 4), ("tug", 3)], [("tug", 3)] * 999]
+NO_LISTS += [[value] for value in NO_BOATS] + [[value, ("tug", 3)] for value in NO_BOATS]
+NO_LISTS += [[("tug", 3), ("red", 4), value] for value in NO_BOATS]
+
+# What is no number of looks that may be let, from 0 to 3.
+NO_MANY = ODD + TUPLES + TEXTS + [-1, -2, -3, 4, 5, 31, 32, 9999999, -9999999, "2", (2,), [2]]
+
 
 def name_of(value):
     """How a test calls a value that may be one that can't be shown."""
@@ -96,3 +126,40 @@ def column_by_steps(plain, kind, bearing):
                 if bearing in bearings:
                     told.append(colour)
     return tuple(told)
+
+
+def watch_of(sights, plain=HARBOUR):
+    """A watch with these sights."""
+    watch = Watch(Fleet(plain))
+    for sight in sights:
+        watch.put(sight)
+    return watch
+
+
+def boats_of(plain, seed, many):
+    """So many boats of a fleet's tuple, in any order."""
+    boats = all_boats(Fleet(plain))
+    return random.Random(seed).sample(boats, min(many, len(boats)))
+
+
+def parts_by_steps(plain, boats, side):
+    """The boats by the columns that they show to a side, each told by going from bearing to bearing."""
+    parts = {}
+    for kind, course in boats:
+        parts.setdefault(column_by_steps(plain, kind, (side - course) % 32), []).append((kind, course))
+    return parts
+
+
+def told_surely(plain, boats, looks):
+    """Whether so many looks tell the boats' kinds surely: all sides are tried."""
+    if len(set([kind for kind, _ in boats])) == 1:
+        return True
+    return looks > 0 and any([
+        all([told_surely(plain, part, looks - 1) for part in parts_by_steps(plain, boats, side).values()])
+        for side in range(32)
+    ])
+
+
+def points_fleet(*kinds):
+    """A fleet's tuple whose kinds have one lamp each, that shows ahead alone."""
+    return (("red",), tuple([(kind, 3, (("red", 0, 0),)) for kind in kinds]))

@@ -3,8 +3,7 @@
 import copy
 import unittest
 
-from handed import (HARBOUR, NAMES, NO_KINDS, NO_POINTS, ODD, TEXTS, TUPLES, column_by_steps, name_of,
-                    some_fleet)
+from handed import HARBOUR, NAMES, NO_BOATS, NO_KINDS, NO_POINTS, column_by_steps, name_of, some_fleet
 from lanternwatch.columns import all_boats, are_alike, column, seen
 from lanternwatch.errors import BadBoats, BadPoint, NoKind
 from lanternwatch.fleets import Fleet
@@ -153,11 +152,6 @@ class Refusals(unittest.TestCase):
         self.assertEqual(handed, [3, "tug"])
         self.assertEqual([seen(self.fleet, kind, 3, side) for kind, side in all_boats(self.fleet)], before)
         self.assertEqual(self.fleet.plain(), HARBOUR)
-
-
-NO_BOATS = ODD + TUPLES + TEXTS + [0, 31, "tug", ["tug", 3], ("tug", [3]), (["tug"], 3), ("boat", 3)]
-NO_BOATS += [(kind, 3) for kind in NO_KINDS] + [("tug", point) for point in NO_POINTS]
-NO_BOATS += [(3, "tug"), ("tug", "3"), ("tug", 3, None), (("tug", 3),), ("tug", "twin"), (3, 3)]
 
 
 class Alike(unittest.TestCase):

@@ -48,6 +48,10 @@ INTERFACE = {
     "showing": {"shown": []},
     "columns": {name: [] for name in ("column", "seen", "sectors", "are_alike", "all_boats")},
     "watches": {"Watch": ["fleet", "put", "sights", "last_moment", "agreeing", "steady"]},
+    "histories": {name: [] for name in ("hides", "table", "history", "likely")},
+    "looking": {name: [] for name in ("parted", "best_plan", "looks_of", "told_by")},
+    "foes": {"Foe": ["answer", "answers", "left"]},
+    "desk": {"Desk": ["watch", "say"]},
 }
 
 

@@ -2,32 +2,10 @@
 
 import unittest
 
-from handed import HARBOUR, NAMES, NO_POINTS, ODD, TEXTS, TUPLES, name_of, some_fleet, some_sights
+from handed import HARBOUR, NAMES, NO_MOMENTS, NO_SIGHTS, name_of, some_fleet, some_sights, watch_of
 from lanternwatch.errors import BadMoment, BadSight, Full
 from lanternwatch.fleets import Fleet
 from lanternwatch.watches import Watch
-
-NO_MOMENTS = ODD + TUPLES + TEXTS + [-1, -2, -99, 100, 101, 999, 9999999, -9999999, "tug"]
-# A colour must be one of red, green and white.
-NO_COLOURS = ODD + TUPLES + [word for word in TEXTS if word not in ("green", "white")] + [0, 1, "tug", "blue"]
-NO_COLUMNS = ODD + TEXTS + [0, 1, "red", ["red"], [], ("red",) * 7, ("white",) * 8, ((),), (("red",),)]
-NO_COLUMNS += [(value,) for value in NO_COLOURS]
-NO_COLUMNS += [("red", value, "white") for value in NO_COLOURS]
-NO_COLUMNS += [("red",) * 5 + (value,) for value in NO_COLOURS]
-NO_SIGHTS = ODD + TUPLES + TEXTS + [0, 99, "sight 1 2 red", (1, 2), (1, 2, ("red",), ()), (1, 2, "red"),
-                                    [1, 2, ("red",)], (1, 2, ["red"]), ((1, 2, ("red",)),), (1, ("red",), 2),
-                                    (("red",), 1, 2), (1, 2, "red", "white"), [(1, 2, ("red",))]]
-NO_SIGHTS += [(value, 2, ("red",)) for value in NO_MOMENTS]
-NO_SIGHTS += [(1, value, ("red",)) for value in NO_POINTS]
-NO_SIGHTS += [(1, 2, value) for value in NO_COLUMNS]
-
-
-def watch_of(sights, plain=HARBOUR):
-    """A watch with these sights."""
-    watch = Watch(Fleet(plain))
-    for sight in sights:
-        watch.put(sight)
-    return watch
 
 
 class Sights(unittest.TestCase):
